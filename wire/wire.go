@@ -48,6 +48,9 @@ func (w *Writer) Text(s string) {
 	w.b = append(w.b, s...)
 }
 
+// Piece writes what another package wrote.
+func (w *Writer) Piece(b []byte) { w.b = append(w.b, b...) }
+
 // Reader takes pieces off the front of bytes. Behind a piece that is not there
 // all others are zero, so that it is enough to ask Bad at the end.
 type Reader struct {
@@ -107,6 +110,21 @@ func (r *Reader) Key() api.Key {
 
 // Text takes a text of at most so many bytes.
 func (r *Reader) Text(most int) string { return string(r.take(r.UpTo(most))) }
+
+// Piece takes what another package reads: that is handed the bytes that were
+// not yet taken, and tells of how many the piece is. Behind a piece that is not
+// there nothing is read.
+func (r *Reader) Piece(read func(b []byte) (n int, err api.Errno)) {
+	if r.bad {
+		return
+	}
+	n, err := read(r.rest)
+	if err != api.OK {
+		r.fail()
+		return
+	}
+	r.take(n)
+}
 
 // take takes so many bytes, as a piece of those that are read.
 func (r *Reader) take(n int) []byte {

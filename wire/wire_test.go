@@ -51,6 +51,13 @@ func TestWriter(t *testing.T) {
 			w.Key(k("sixteen bytes..."))
 			w.Stamp(api.Stamp{Time: 1})
 		}, "\x01\x01x\x01sixteen bytes...\x80\x02"},
+		{func(w *Writer) { w.Piece(nil) }, ""}, {func(w *Writer) { w.Piece([]byte{}) }, ""}, {func(w *Writer) { w.Piece([]byte("\x00xyz")) }, "\x00xyz"},
+		{func(w *Writer) {
+			w.Flag(true)
+			w.Piece([]byte("some"))
+			w.Piece([]byte("more"))
+			w.Number(9)
+		}, "\x01somemore\x09"},
 	} {
 		if got := wrote(c.f); got != c.want {
 			t.Errorf("P14.1: wrote %x; want %x", got, c.want)
@@ -68,6 +75,23 @@ func TestWriterHandsOut(t *testing.T) {
 	w.Text("over, and written over")
 	if string(first) != "\xac\x02" || string(second) != "\x03xyz" {
 		t.Errorf("R4: %x, %x", first, second)
+	}
+}
+
+// R4: a piece that is handed in is as it was, spare room included, and is not
+// kept.
+func TestWriterOfPieces(t *testing.T) {
+	room := []byte("piece, and spare room")
+	was := bytes.Clone(room)
+	var w Writer
+	w.Piece(room[:5])
+	w.Text("behind it")
+	if !bytes.Equal(room, was) {
+		t.Fatalf("R4: the piece was changed: %q", room)
+	}
+	clear(room)
+	if got := string(w.Bytes()); got != "piece\x09behind it" {
+		t.Errorf("R4: the piece is kept: %q", got)
 	}
 }
 
@@ -166,6 +190,54 @@ func TestReaderOfBytes(t *testing.T) {
 	}
 	if s != "xyz" || x != k("sixteen bytes...") {
 		t.Errorf("R4: what was read is kept: %q, %q", s, x)
+	}
+}
+
+// P19.1: a piece that another package reads: it is handed what is left, and as
+// many bytes are taken as it tells.
+func TestReaderPiece(t *testing.T) {
+	for n := range 5 {
+		in := Over([]byte("\x07four"))
+		in.Number()
+		handed := ""
+		in.Piece(func(b []byte) (int, api.Errno) {
+			handed = string(b)
+			return n, api.OK
+		})
+		if handed != "four" || in.Bad() || in.Left() != 4-n {
+			t.Errorf("P19.1: a piece of %d bytes: it was handed %q; %v, %d", n, handed, in.Bad(), in.Left())
+		}
+		for _, c := range "four"[n:] {
+			if got := in.Number(); got != uint64(c) {
+				t.Errorf("P19.1: behind a piece of %d bytes: %d; want %d", n, got, c)
+			}
+		}
+		if in.Bad() || in.Left() != 0 {
+			t.Errorf("P19.1: behind a piece of %d bytes: %v, %d", n, in.Bad(), in.Left())
+		}
+	}
+}
+
+// P19.1: a piece that is refused, or is not there: all others are zero then,
+// and nothing is read any more.
+func TestReaderPieceBad(t *testing.T) {
+	for what, read := range map[string]func(b []byte) (int, api.Errno){
+		"refused":               func(b []byte) (int, api.Errno) { return 0, api.EFORM },
+		"refused, with a count": func(b []byte) (int, api.Errno) { return 2, api.EARG },
+		"past the end":          func(b []byte) (int, api.Errno) { return len(b) + 1, api.OK },
+	} {
+		in := Over([]byte("\x01\x01\x01\x01"))
+		in.Piece(read)
+		if !in.Bad() || in.Left() != 0 || in.Number() != 0 {
+			t.Errorf("P19.1: a piece %s: %v, %d", what, in.Bad(), in.Left())
+		}
+		in.Piece(func(b []byte) (int, api.Errno) {
+			t.Errorf("P19.1: read behind a piece %s", what)
+			return 0, api.OK
+		})
+		if !in.Bad() || in.Left() != 0 {
+			t.Errorf("P19.1: two pieces behind one %s: %v, %d", what, in.Bad(), in.Left())
+		}
 	}
 }
 
